@@ -1,0 +1,118 @@
+"""What several tests need: things of all kinds, and slow but plain ways to reckon what is due."""
+
+import random
+from fractions import Fraction
+from math import gcd, lcm
+
+GREAT = 10 ** 200
+
+
+def nested(depth, make):
+    """A thing with so many lists or tuples within one another."""
+    thing = make([])
+    for turn in range(depth - 1):
+        thing = make([thing])
+    return thing
+
+
+# None of these is a whole number, a fraction or a polynomial.
+ODD_THINGS = [
+    None, True, False, "", "x", "1", "(1, 2)", [], [0], [1], [1, 2], [1, 1], [[1, 2]], [(1, 2)], [None],
+    (None,), ("1",), ("1", "2"), (1, "2"), ("1", 2), (1, None), (None, 1), ((1, 2),), ([1], [2]), ((1,), (2,)),
+    ((1, 2), (3, 4)), ([], 1), (1, []), (True, True), (1, True), (True, 2), (False, 1), (0, False), (True,), (False,),
+    (1, ()), ((), 1), nested(24, list), nested(24, tuple), (1, nested(23, tuple)), (nested(23, list), 1),
+]
+
+NO_WHOLES = ODD_THINGS + [(), (1,), (1, 2), (0, 1)]
+NO_RATIOS = ODD_THINGS + [
+    0, 1, -1, GREAT, (), (1,), (1, 2, 3), (0, 1, 1), (1, 0), (0, 0), (1, -2), (-1, -2), (0, -1), (0, 2), (2, 4),
+    (-2, 4), (6, 3), (GREAT, GREAT), (GREAT, 2), (2, GREAT), (-GREAT, 5),
+]
+NO_POLYS = ODD_THINGS + [
+    0, 1, -1, GREAT, (0,), (0, 0), (1, 0), (1, 2, 0), (0,) * 13, (1,) * 14, (0,) * 13 + (1,), (1,) * 13 + (0,),
+    (1,) * 25, (1,) * 40, (1, 2, None), (1, "2", 3), (True, 0, 1), (1, False, 1), (1, 0, True), (1, [2], 3), [1, 2, 3],
+]
+
+
+def seeded(word):
+    """A source of numbers that is the same at each run."""
+    return random.Random(word)
+
+
+def some_poly(source, degree, bound):
+    """A polynomial of just that degree, with numbers up to bound on both sides of 0."""
+    last = source.choice([-1, 1]) * source.randint(1, bound)
+    return tuple([source.randint(-bound, bound) for turn in range(degree)] + [last])
+
+
+def slow_product(*polys):
+    """The product of all, of any length."""
+    outcome = [1]
+    for poly in polys:
+        longer = [0] * max(0, len(outcome) + len(poly) - 1)
+        for at, left in enumerate(outcome):
+            for by, right in enumerate(poly):
+                longer[at + by] += left * right
+        outcome = longer
+    while outcome and outcome[-1] == 0:
+        outcome.pop()
+    return tuple(outcome)
+
+
+def slow_division(one, other):
+    """Quotient and rest with fractions as coefficients."""
+    rest = [Fraction(number) for number in one]
+    numbers = [Fraction(0)] * max(0, len(one) - len(other) + 1)
+    for at in range(len(one) - len(other), -1, -1):
+        numbers[at] = rest[at + len(other) - 1] / other[-1]
+        for by, number in enumerate(other):
+            rest[at + by] -= numbers[at] * number
+    while rest and rest[-1] == 0:
+        rest.pop()
+    return numbers, rest
+
+
+def slow_plain(numbers):
+    """The plain polynomial of a list of fractions."""
+    if not numbers:
+        return ()
+    many = lcm(*[Fraction(number).denominator for number in numbers])
+    wholes = [int(number * many) for number in numbers]
+    divisor = gcd(*wholes)
+    if wholes[-1] < 0:
+        divisor = -divisor
+    return tuple([whole // divisor for whole in wholes])
+
+
+def slow_common(one, other):
+    """Euclid's way, with fractions."""
+    one, other = list(one), list(other)
+    while other:
+        one, other = other, slow_division(one, other)[1]
+    return slow_plain([Fraction(number) / one[-1] for number in one])
+
+
+def square(one, other):
+    """The rows of the determinant that the resultant is."""
+    m, n = len(one) - 1, len(other) - 1
+    rows = [[0] * at + list(one[::-1]) + [0] * (n - 1 - at) for at in range(n)]
+    return rows + [[0] * at + list(other[::-1]) + [0] * (m - 1 - at) for at in range(m)]
+
+
+def determinant(rows):
+    """By Gauss's way, with fractions."""
+    rows = [[Fraction(number) for number in row] for row in rows]
+    worth = Fraction(1)
+    for at in range(len(rows)):
+        found = [by for by in range(at, len(rows)) if rows[by][at] != 0]
+        if not found:
+            return 0
+        if found[0] != at:
+            rows[at], rows[found[0]] = rows[found[0]], rows[at]
+            worth = -worth
+        worth *= rows[at][at]
+        for by in range(at + 1, len(rows)):
+            scale = rows[by][at] / rows[at][at]
+            if scale:
+                rows[by] = [low - scale * high for low, high in zip(rows[by], rows[at])]
+    return worth

@@ -1,0 +1,1 @@
+"""Trueroots: roots of whole polynomials, kept exactly."""
