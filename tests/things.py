@@ -116,3 +116,48 @@ def determinant(rows):
             if scale:
                 rows[by] = [low - scale * high for low, high in zip(rows[by], rows[at])]
     return worth
+
+
+def slow_value(poly, number):
+    """The value at a fraction, by its powers."""
+    return sum([part * Fraction(number) ** at for at, part in enumerate(poly)], Fraction(0))
+
+
+def pair_of(number):
+    """A fraction of Python's as the program has it."""
+    number = Fraction(number)
+    return (number.numerator, number.denominator)
+
+
+def line(number):
+    """The plain polynomial of length 2 whose root is a fraction."""
+    number = Fraction(number)
+    return (-number.numerator, number.denominator)
+
+
+def from_roots(*numbers):
+    """The plain polynomial with just these fractions as roots, so often as they are there."""
+    return slow_product(*[line(number) for number in numbers])
+
+
+def slow_derivative(poly):
+    """The derivative."""
+    return tuple([at * part for at, part in enumerate(poly)][1:])
+
+
+def slow_chain(poly):
+    """Sturm's chain in Sturm's way, with fractions."""
+    whole = slow_plain(poly)
+    first = slow_plain(slow_division(whole, slow_common(whole, slow_derivative(whole)))[0])
+    rows = [[Fraction(part) for part in first]]
+    row = [Fraction(part) for part in slow_derivative(first)]
+    while row:
+        rows.append(row)
+        row = [-part for part in slow_division(rows[-2], rows[-1])[1]]
+    return [kept_sign(row) for row in rows]
+
+
+def kept_sign(numbers):
+    """A list of fractions, not empty, times the fraction above 0 that leaves whole numbers without a divisor."""
+    sign = 1 if numbers[-1] > 0 else -1
+    return tuple([sign * part for part in slow_plain(numbers)])

@@ -54,14 +54,23 @@ def content(poly):
     return divisor
 
 
+def shrunk(poly):
+    """The polynomial divided by its content; no sign is turned."""
+    divisor = content(poly)
+    return tuple([number // divisor for number in poly])
+
+
+def opposite_of(poly):
+    """The polynomial times -1."""
+    return tuple([-number for number in poly])
+
+
 def plain_of(poly):
     """The polynomial divided by its content, and by -1 where its last coefficient is below 0."""
-    if len(poly) == 0:
-        return ()
-    divisor = content(poly)
-    if poly[-1] < 0:
-        divisor = -divisor
-    return tuple([number // divisor for number in poly])
+    small = shrunk(poly)
+    if len(small) > 0 and small[-1] < 0:
+        return opposite_of(small)
+    return small
 
 
 def quotient_of(one, other):
@@ -137,6 +146,12 @@ def resultant_of(one, other):
     worth = descent(other, one)[1]
     # The rows of the determinant change places: so many times as the product of the degrees.
     return -worth if both_odd(one, other) else worth
+
+
+def once_of(poly):
+    """The plain polynomial with the roots of a polynomial, not nought, each once."""
+    whole = plain_of(poly)
+    return quotient_of(whole, common_of(whole, derivative(whole)))
 
 
 def layers_of(poly):

@@ -30,11 +30,16 @@ def ratio(top, bottom=1):
     return (top // divisor, bottom // divisor)
 
 
+def is_less(one, other):
+    """Whether a fraction is less than another one."""
+    return one[0] * other[1] < other[0] * one[1]
+
+
 def simplest(low, high):
     """The fraction between two, none of the two, of the least bottom, and of these nearest to 0."""
     need_ratio(low)
     need_ratio(high)
-    if low[0] * high[1] >= high[0] * low[1]:
+    if not is_less(low, high):
         raise NothingBetween("the first is not less than the second")
     if low[0] >= 0:
         return simplest_above(low, high)
