@@ -17,6 +17,15 @@ BARRED = re.compile(
     r"\b(type|typing|typing_extensions|enum|Enum|IntEnum|StrEnum|Flag|IntFlag|Generic|Protocol|ABC|ABCMeta|namedtuple"
     r"|NamedTuple|TypedDict|TYPE_CHECKING|abstractmethod)\b|dataclass|overload|contextmanager")
 DOUBLES = {"__init__", "__eq__", "__repr__", "__str__", "__len__"}
+# L25, the first list; those of the second list are not needed so far.
+BUILT_IN = set(
+    "append clear copy count endswith extend find get index insert isalnum isalpha isdigit islower isspace isupper items"
+    " join keys ljust lower lstrip partition pop remove replace reverse rfind rjust rpartition rsplit rstrip setdefault"
+    " split splitlines startswith strip update upper values zfill bit_length".split())
+AT_ONCE = {"zip", "enumerate", "reversed", "range"}
+TAKERS = {"list", "tuple", "dict", "sorted", "sum", "any", "all", "enumerate", "zip"}
+KEYWORDS = {"sorted": {"key", "reverse"}, "min": {"key", "default"}, "max": {"key", "default"}, "sum": {"start"},
+            "enumerate": {"start"}, "zip": {"strict"}}
 
 
 class Language(unittest.TestCase):
@@ -72,6 +81,95 @@ class Language(unittest.TestCase):
                 if isinstance(node, ast.FunctionDef) and node.name.startswith("_"):
                     self.assertIn(node.name, DOUBLES, name)
 
+    def test_l15_no_name_hides_an_import_or_a_class(self):
+        for name, text, tree in self.each():
+            barred = [row.name for row in tree.body if isinstance(row, ast.ClassDef)]
+            for row in tree.body:
+                if isinstance(row, ast.ImportFrom):
+                    barred.extend([each.asname or each.name for each in row.names])
+            for node in ast.walk(tree):
+                if isinstance(node, ast.Name) and isinstance(node.ctx, ast.Store):
+                    self.assertNotIn(node.id, barred, (name, node.lineno))
+                if isinstance(node, ast.ExceptHandler):
+                    self.assertNotIn(node.name, barred, (name, node.lineno))
+
+    def test_l16_no_file_imports_itself_through_others(self):
+        needs = {}
+        for name, text, tree in self.each():
+            needs[name] = [row.module.removeprefix("trueroots.") + ".py" for row in tree.body
+                           if isinstance(row, ast.ImportFrom)]
+        done = []
+        while len(done) < len(needs):
+            ready = [name for name in needs if name not in done and all([each in done for each in needs[name]])]
+            self.assertTrue(ready, [name for name in needs if name not in done])
+            done.extend(ready)
+
+    def test_l18_no_name_is_a_method_and_an_attribute(self):
+        methods, attributes = set(), set()
+        for name, text, tree in self.each():
+            for node in ast.walk(tree):
+                if isinstance(node, ast.ClassDef):
+                    methods.update([row.name for row in node.body if isinstance(row, ast.FunctionDef)])
+                if isinstance(node, ast.Attribute) and isinstance(node.ctx, ast.Store):
+                    attributes.add(node.attr)
+        self.assertEqual(methods & attributes, set())
+
+    def test_l19_errors(self):
+        for name, text, tree in self.each():
+            for node in ast.walk(tree):
+                if isinstance(node, ast.ExceptHandler):
+                    self.assertIsInstance(node.type, ast.Name, name)
+                    self.assertFalse(hasattr(builtins, node.type.id), (name, node.lineno))
+                if isinstance(node, ast.Raise) and node.exc is not None:
+                    self.assertIsInstance(node.exc, ast.Call, (name, node.lineno))
+                if isinstance(node, ast.FunctionDef):
+                    told = [each.name for each in ast.walk(node) if isinstance(each, ast.ExceptHandler) and each.name]
+                    self.assertEqual(len(told), len(set(told)), (name, node.name))
+
+    def test_l22_l23_builtins(self):
+        for name, text, tree in self.each():
+            above = {child: node for node in ast.walk(tree) for child in ast.iter_child_nodes(node)}
+            for node in ast.walk(tree):
+                if isinstance(node, ast.Call) and isinstance(node.func, ast.Name) and hasattr(builtins, node.func.id):
+                    for keyword in node.keywords:
+                        self.assertIn(keyword.arg, KEYWORDS.get(node.func.id, set()), (name, node.lineno))
+                    if node.func.id in AT_ONCE:
+                        self.assertTrue(at_once(node, above[node]), (name, node.lineno))
+                if isinstance(node, ast.Name) and hasattr(builtins, node.id) and node.id in TAKERS | {"len", "min", "max"}:
+                    caller = above[node]
+                    self.assertTrue(isinstance(caller, ast.Call), (name, node.lineno))
+
+    def test_l24_sets(self):
+        for name, text, tree in self.each():
+            above = {child: node for node in ast.walk(tree) for child in ast.iter_child_nodes(node)}
+            for node in ast.walk(tree):
+                self.assertNotIsInstance(node, (ast.Set, ast.SetComp), name)
+                if isinstance(node, ast.Call) and isinstance(node.func, ast.Name) and node.func.id == "set":
+                    self.assertIn(above[node].func.id, ("len", "sorted"), (name, node.lineno))
+
+    def test_l25_methods(self):
+        own = set()
+        for name, text, tree in self.each():
+            for node in ast.walk(tree):
+                if isinstance(node, ast.ClassDef):
+                    own.update([row.name for row in node.body if isinstance(row, ast.FunctionDef)])
+        for name, text, tree in self.each():
+            for node in ast.walk(tree):
+                if isinstance(node, ast.Call) and isinstance(node.func, ast.Attribute):
+                    self.assertIn(node.func.attr, own | BUILT_IN, (name, node.lineno))
+                    if node.func.attr in BUILT_IN:
+                        self.assertEqual(node.keywords, [], (name, node.lineno))
+
+    def test_l28_doubles(self):
+        for name, text, tree in self.each():
+            for node in ast.walk(tree):
+                if isinstance(node, ast.FunctionDef) and node.name in DOUBLES - {"__init__"}:
+                    self.assertIsInstance(node.body[-1], ast.Return, (name, node.name))
+                    for part in ast.walk(node):
+                        self.assertNotIsInstance(part, (ast.Assign, ast.AugAssign, ast.Delete), (name, node.name))
+                if isinstance(node, ast.FunctionDef) and node.name in ("__str__", "__len__"):
+                    self.assertEqual(node.body[-1].value.func.id, {"__str__": "str", "__len__": "len"}[node.name])
+
     def test_l7_l27_values(self):
         for name, text, tree in self.each():
             for node in ast.walk(tree):
@@ -91,6 +189,15 @@ class Language(unittest.TestCase):
                     for sign, side in zip(node.ops, node.comparators):
                         if isinstance(sign, (ast.Is, ast.IsNot)):
                             self.assertTrue(isinstance(side, ast.Constant) and side.value in (None, True, False), name)
+
+
+def at_once(node, above):
+    """Whether a call that is to be iterated on the spot stands where that is done."""
+    if isinstance(above, (ast.For, ast.comprehension)):
+        return above.iter == node
+    if isinstance(above, ast.Call) and isinstance(above.func, ast.Name):
+        return above.func.id in TAKERS and above.args[0] == node or above.func.id in ("min", "max")
+    return False
 
 
 def bound(tree, with_imports):

@@ -10,6 +10,9 @@ from trueroots.wholes import is_prime, power
 # So many primes are tried before the one with the fewest parts is taken.
 TRIED = 5
 
+# A prime so great that few polynomials have a root twice by it that have none twice.
+GREAT_PRIME = 10007
+
 
 def fewest_parts(poly):
     """A prime and the parts of a polynomial by it, as few as some primes have; it has no root twice."""
@@ -86,9 +89,17 @@ def singles_of(poly):
     return joined(poly, lifted_parts(poly, parts, prime, moduli), moduli[-1])
 
 
+def quick_layers(poly):
+    """The layers of a polynomial, not nought."""
+    # What has no root twice by a prime has none at all: that is seen far sooner than the layers are reckoned.
+    if not folds_by(poly, GREAT_PRIME):
+        return [(plain_of(poly), 1)]
+    return layers_of(poly)
+
+
 def factors_of(poly):
     """The pairs (single polynomial, how often) of a polynomial, not nought, shorter ones first."""
-    pairs = [(single, many) for layer, many in layers_of(poly) for single in singles_of(layer)]
+    pairs = [(single, many) for layer, many in quick_layers(poly) for single in singles_of(layer)]
     return sorted(pairs, key=lambda pair: (len(pair[0]), pair[0]))
 
 
