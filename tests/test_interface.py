@@ -17,14 +17,24 @@ FILES = {
               "spans_hold(poly, rows)"],
     "fields": ["Field(base)", "value_of(poly, one)"],
     "signs": ["sign_at(poly, one)", "cells(polys)", "sign_rows(polys)"],
+    "regions": ["is_formula(thing)", "region(formula)"],
+    "sheets": ["is_name(thing)", "is_tree(thing)", "Sheet(*, limit=24)"],
+    "texts": ["write_poly(poly)", "read_poly(text)", "read_real(text)", "write_tree(tree)", "read_tree(text)",
+              "write_formula(formula)", "read_formula(text)", "write_pieces(pieces)"],
+    "desk": ["Desk(*, limit=24)"],
 }
-NUMBERS = {"polys": {"MOST_DEGREE": 12}, "reals": {"THOUSAND": 1000}}
+NUMBERS = {"polys": {"MOST_DEGREE": 12}, "reals": {"THOUSAND": 1000}, "sheets": {"LIMIT": 24}}
 CLASSES = {
     ("reals", "Real"): ["sign()", "side(other)", "floor()", "near(*, bottom=1000)", "span(*, narrow=1000)",
                         "opposite()", "plus(other)", "minus(other)", "times(other)", "over(other)", "raised(many)",
                         "nth(many)", "__eq__(other)", "__str__()"],
     ("fields", "Field"): ["is_own(thing)", "brought(poly)", "plus(one, other)", "times(one, other)", "inverse(one)",
                           "trace(one)", "norm(one)", "least_poly(one)", "value(one)", "side(one)"],
+    ("regions", "Region"): ["pieces()", "holds(one)", "some()", "least()", "most()", "wholes(low, high)", "both(other)",
+                            "either(other)", "rest()", "within(other)", "__eq__(other)", "__len__()"],
+    ("sheets", "Sheet"): ["put(name, tree)", "strike(name)", "back()", "again()", "names()", "tree(name)", "uses(name)",
+                          "users(name)", "order()", "value(name)", "walk()", "twin()", "__len__()"],
+    ("desk", "Desk"): ["ask(row)", "told()", "__len__()"],
 }
 
 
@@ -51,6 +61,18 @@ class Interface(unittest.TestCase):
         for file, numbers in NUMBERS.items():
             for name, due in numbers.items():
                 self.assertEqual(getattr(file_of(file), name), due)
+
+    def test_attributes_are_set_when_an_object_is_created(self):
+        reals = file_of("reals")
+        real = reals.root((-2, 0, 1), 1)
+        self.assertEqual((real.poly, real.place), ((-2, 0, 1), 1))
+        field = file_of("fields").Field(real)
+        self.assertEqual((field.base, field.size), (real, 2))
+
+    def test_classes_that_askers_do_not_call(self):
+        self.assertIsInstance(file_of("reals").Real, type)
+        self.assertIsInstance(file_of("regions").Region, type)
+        self.assertEqual(file_of("regions").Region.__module__, "trueroots.regions")
 
     def test_methods_stand_in_their_own_class(self):
         for (file, kind), rows in CLASSES.items():

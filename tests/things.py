@@ -161,3 +161,25 @@ def kept_sign(numbers):
     """A list of fractions, not empty, times the fraction above 0 that leaves whole numbers without a divisor."""
     sign = 1 if numbers[-1] > 0 else -1
     return tuple([sign * part for part in slow_plain(numbers)])
+
+
+def exchanged(thing, other):
+    """All that comes of a thing with one place in it, or the whole, exchanged for another thing."""
+    found = [other]
+    if isinstance(thing, tuple):
+        for at, part in enumerate(thing):
+            found.extend([thing[:at] + (inner,) + thing[at + 1:] for inner in exchanged(part, other)])
+    return found
+
+
+def reshaped(thing):
+    """All that comes of a thing with one tuple in it made a list, or given a part more or less."""
+    if not isinstance(thing, tuple):
+        return []
+    found = [list(thing), thing + (None,), thing + (thing,)]
+    # Without one of its formulas, or of its numbers, many a thing is of the same kind still.
+    if thing and isinstance(thing[0], str):
+        found.extend([thing[:-1], thing[1:]])
+    for at, part in enumerate(thing):
+        found.extend([thing[:at] + (inner,) + thing[at + 1:] for inner in reshaped(part)])
+    return found
