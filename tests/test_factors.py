@@ -9,7 +9,7 @@ from things import GREAT, NO_POLYS, from_roots, seeded, slow_division, slow_plai
 
 from trueroots.chains import chain
 from trueroots.errors import NoPoly
-from trueroots.factors import bound_of, factors, is_single
+from trueroots.factors import GREAT_PRIME, bound_of, factors, is_single
 
 # The single polynomials whose products are x ** n - 1, by n.
 CIRCLES = {
@@ -212,6 +212,15 @@ class Factors(unittest.TestCase):
         # Two roots that leave the same by each of these primes.
         self.product_holds(1, [((0, 1), 1), ((small, 1), 1)])
         self.product_holds(1, [((1, 0, 1), 1), ((1 + small, 0, 1), 1)])
+
+    def test_roots_that_meet_by_the_prime_that_is_asked_first(self):
+        prime = GREAT_PRIME
+        one, other = (-2, 0, 1), (-2 - prime, 0, 1)
+        for pairs in [[((0, 1), 1), ((-prime, 1), 1)], [((-1, prime), 1), ((0, 1), 1)], [(one, 1), (other, 1)],
+                      [(one, 2), (other, 1)], [((0, 1), 3), ((prime, 1), 2), (one, 1)], [((-1, 0, prime), 2), (one, 1)],
+                      [(one, 3)], [((0, 1), 1), (one, 1)]]:
+            for part in [1, -6, prime]:
+                self.product_holds(part, in_order(pairs))
 
     def test_the_bound_is_above_all_factors(self):
         # Some of these have greater coefficients than the polynomial itself.
